@@ -1,29 +1,21 @@
 package compile_test
 
 import (
-	"slices"
 	"strconv"
 	"strings"
 	"testing"
 
 	"dapple/api"
-	"dapple/compile"
 )
 
 // many is a text, so often.
 func many(n int, s string) string { return strings.Repeat(s+" ", n) }
 
-// edge holds a source that may be, and one that is too much with the form at.
+// edge holds a source that may be, and one that is too much with the form at, whatever stands behind that.
 func edge(t *testing.T, fine, over string, at int) {
 	t.Helper()
 	compiled(t, table(t), formsOf(t, fine)...)
-	refused(t, table(t), api.ErrCompileMuch, at, "", formsOf(t, over)...)
-	// By itself and within the rest what is too much is the same form.
-	l := formsOf(t, over)
-	if _, e, _ := compile.Compile(table(t), l[:at]...); e != api.OK {
-		t.Errorf("the forms ahead of %d: %d", at, e)
-	}
-	refused(t, table(t), api.ErrCompileMuch, at, "", append(slices.Clone(l), api.Form{}, formOf(t, "'a"))...)
+	refused(t, table(t), api.ErrCompileMuch, at, "", append(formsOf(t, over), api.Form{}, formOf(t, "'a"))...)
 }
 
 func TestHowManyProcedures(t *testing.T) {
