@@ -221,7 +221,10 @@ func TestOneIsShutAlone(t *testing.T) {
 	if s := was.differs(seen(other)); s != "" {
 		t.Fatal(s)
 	}
-	have(t, 1+other.Threads())
+	// One that has told of its end is counted a moment longer.
+	if !soon(func() bool { return len(routines()) == 1+other.Threads() }) {
+		t.Fatal(len(routines()), other.Threads())
+	}
 	for range 20 {
 		other.Settle(100)
 		other.Collect()
