@@ -123,6 +123,30 @@ func TestShownErrors(t *testing.T) {
 	}
 }
 
+// TestCodeThatMayNotBe: no source comes to such code; what its text, a world and a baton of it answer would be told.
+func TestCodeThatMayNotBe(t *testing.T) {
+	h := newHand()
+	h.code = &api.Code{}
+	numbers := given{numbers: []int{4, 0, 1}}
+	for _, s := range []string{h.codeText(given{}), h.makeWorld(numbers), h.handBaton(numbers)} {
+		if s != "error 80\n" {
+			t.Errorf("%q", s)
+		}
+	}
+	if h.hasWorld() {
+		t.Error("there is a world")
+	}
+}
+
+// TestBatonThatCannotStart: its first procedure takes an argument; also this one is shut.
+func TestBatonThatCannotStart(t *testing.T) {
+	h := newHand()
+	h.code = &api.Code{Consts: []api.Word{made(t, api.TagNil, 0)}, Procs: []api.Proc{{Params: 1, Code: []api.Instr{{Op: api.OpConst}, {Op: api.OpReturn}}}}}
+	if s := h.handBaton(given{numbers: []int{4, 0, 1, 2, 3}}); s != "error 1\n" {
+		t.Errorf("%q", s)
+	}
+}
+
 // TestTable: each row has all that it needs; which ones are starred.
 func TestTable(t *testing.T) {
 	starred := 0
