@@ -268,19 +268,19 @@ func TestNames(t *testing.T) {
 func TestWorlds(t *testing.T) {
 	for _, cells := range []int{0, 1, 3, 4, 5, 4095, 4096, 4097, 65535} {
 		for _, locks := range []int{0, 1, 8, 9, 65535} {
-			make := fmt.Sprintf("world %d %d", cells, locks)
+			making := fmt.Sprintf("world %d %d", cells, locks)
 			if cells < 4 || cells > 4096 || locks > 8 {
-				tells(t, source("1")+lines("world 4 0", "start 0", make, "start 0", "phase", "heap", "world 4 0", "ready"),
+				tells(t, source("1")+lines("world 4 0", "start 0", making, "start 0", "phase", "heap", "world 4 0", "ready"),
 					"source 1 0", "ok", "thread 1", "error 1", "none", "none", "none", "ok", "ready")
 				continue
 			}
-			tells(t, source("1")+lines("world 4 0", "start 0", "settle 9", make, "ready", "phase", "heap", "ended 1", "start 0", "settle 9", "ended 1", "live"),
+			tells(t, source("1")+lines("world 4 0", "start 0", "settle 9", making, "ready", "phase", "heap", "ended 1", "start 0", "settle 9", "ended 1", "live"),
 				"source 1 0", "ok", "thread 1", "settled 1", "ok", "ready", "phase 0 0 0", "heap 0", "error 201", "thread 1", "settled 1", "= 1", "live")
 			free := "free"
 			for i := range cells {
 				free += fmt.Sprint(" ", i)
 			}
-			tells(t, source("1")+lines(make, "free"), "source 1 0", "ok", free)
+			tells(t, source("1")+lines(making, "free"), "source 1 0", "ok", free)
 		}
 	}
 	// Locks are as many as it says.
